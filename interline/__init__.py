@@ -1,0 +1,1 @@
+"""Interline: an airline and its days that break."""

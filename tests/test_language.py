@@ -1,0 +1,260 @@
+"""LANGUAGE.md, as far as a look at the files of the package can tell."""
+
+import ast
+import builtins
+import io
+import pathlib
+import re
+import tokenize
+import unittest
+
+PACKAGE = pathlib.Path(__file__).resolve().parent.parent / "interline"
+FILES = sorted(PACKAGE.rglob("*.py"))
+TREES = {path: ast.parse(path.read_text(encoding="ascii")) for path in FILES}
+
+BUILTINS = set("""len range enumerate zip min max sum abs sorted reversed int str bool list tuple dict set isinstance
+    ord repr any all divmod ValueError KeyError""".split())
+LIBRARY = {"heapq": {"heappush", "heappop"}}
+METHODS = set("""append clear copy count endswith extend find get index insert isalnum isalpha isdigit islower isspace
+    isupper items join keys ljust lower lstrip partition pop remove replace reverse rfind rjust rpartition rsplit
+    rstrip setdefault split splitlines startswith strip update upper values zfill bit_length""".split())
+KEYWORDS = {"sorted": {"reverse"}, "min": {"default"}, "max": {"default"}, "enumerate": {"start"}, "sum": {"start"}}
+STATEMENTS = (ast.Assign, ast.AugAssign, ast.If, ast.While, ast.For, ast.Return, ast.Break, ast.Continue, ast.Raise,
+              ast.Expr, ast.FunctionDef, ast.ClassDef, ast.ImportFrom, ast.Try, ast.Pass, ast.Delete)
+NOWHERE = set("mro elements open input law version_info with_traceback add_note register".split())
+BARRED = set("""attrgetter breakpoint builtins compile copyright credits delattr dir eval exec exit gc getattr globals
+    hasattr help id importlib license locals methodcaller os quit setattr super type vars sys""".split())
+WORDS = set("""type typing typing_extensions enum Enum IntEnum StrEnum Flag IntFlag Generic Protocol ABC ABCMeta
+    namedtuple NamedTuple TypedDict TYPE_CHECKING abstractmethod""".split())
+ATTRIBUTES = set("""items keys values pop update append clear extend insert remove reverse setdefault sort args encode
+    decode hex fromhex format""".split())
+
+
+def nodes(kinds):
+    """All nodes of some kinds, with the files where they stand."""
+    return [(path.name, node) for path, tree in TREES.items() for node in ast.walk(tree) if isinstance(node, kinds)]
+
+
+def plain(node, functions):
+    """Whether an expression is a plain value, or a tuple of plain values and functions."""
+    if isinstance(node, ast.Tuple):
+        return all(plain(part, functions) for part in node.elts)
+    if isinstance(node, ast.Name):
+        return node.id in functions
+    return isinstance(node, ast.Constant) and isinstance(node.value, (int, str, type(None)))
+
+
+class LanguageTest(unittest.TestCase):
+
+    def test_files(self):
+        found = [path for path in PACKAGE.rglob("*") if path.is_file() and "__pycache__" not in path.parts]
+        self.assertEqual(sorted(found), FILES)
+        self.assertLessEqual(len(FILES), 100)
+        for path in FILES:
+            self.assertRegex(path.name, "^([a-z][a-z0-9_]*|__init__).py$")
+            self.assertTrue(path.stem == "__init__" or not hasattr(builtins, path.stem))
+
+    def test_characters_and_lines(self):
+        for path in FILES:
+            text = path.read_text(encoding="ascii")
+            self.assertRegex(text, "^[ -~\n]*$")
+            lines = text.splitlines()
+            self.assertLessEqual(len(lines), 399, path.name)
+            self.assertLessEqual(max(len(line) for line in lines), 120, path.name)
+
+    def test_no_warnings(self):
+        for path in FILES:
+            compile(path.read_text(encoding="ascii"), str(path), "exec", dont_inherit=True)
+
+    def test_functions_are_small(self):
+        for name, node in nodes(ast.FunctionDef):
+            self.assertLessEqual(node.end_lineno - node.lineno + 1, 40, f"{name} {node.name}")
+            self.assertEqual(node.decorator_list, [])
+            self.assertIsNone(node.returns)
+            plain_ones = node.args.args
+            rest = (node.args.posonlyargs, node.args.kwonlyargs, node.args.defaults, node.args.vararg, node.args.kwarg)
+            self.assertFalse(any(rest), node.name)
+            self.assertFalse(any(part.annotation for part in plain_ones))
+            self.assertIsNotNone(ast.get_docstring(node) or node.name == "__init__" or None, f"{name} {node.name}")
+
+    def test_module_level(self):
+        for path, tree in TREES.items():
+            self.assertIsNotNone(ast.get_docstring(tree), path.name)
+            functions = {node.name for node in tree.body if isinstance(node, ast.FunctionDef)}
+            bound = []
+            for place, node in enumerate(tree.body):
+                if isinstance(node, ast.Assign):
+                    self.assertTrue(len(node.targets) == 1 and isinstance(node.targets[0], ast.Name), path.name)
+                    self.assertTrue(plain(node.value, functions), f"{path.name} {node.lineno}")
+                    bound.append(node.targets[0].id)
+                elif isinstance(node, ast.ImportFrom):
+                    self.assertTrue(all(isinstance(one, ast.ImportFrom) for one in tree.body[1:place]), path.name)
+                    bound.extend(alias.name for alias in node.names)
+                elif isinstance(node, (ast.FunctionDef, ast.ClassDef)):
+                    bound.append(node.name)
+                else:
+                    self.assertEqual(place, 0, f"{path.name} {node.lineno}")
+            self.assertEqual(len(bound), len(set(bound)), path.name)
+
+    def test_imports(self):
+        leads = {}
+        for path, tree in TREES.items():
+            used = {node.id for node in ast.walk(tree) if isinstance(node, ast.Name)}
+            for node in ast.walk(tree):
+                self.assertNotIsInstance(node, ast.Import)
+                if not isinstance(node, ast.ImportFrom):
+                    continue
+                self.assertEqual(node.level, 0)
+                names = {alias.name for alias in node.names}
+                self.assertTrue(all(alias.asname is None for alias in node.names))
+                self.assertEqual(names - used, set(), path.name)
+                if node.module in LIBRARY:
+                    self.assertLessEqual(names, LIBRARY[node.module])
+                    continue
+                package, _, stem = node.module.partition(".")
+                self.assertEqual(package, "interline")
+                leads.setdefault(path.stem, set()).add(stem)
+                defined = {one.name for one in TREES[PACKAGE / f"{stem}.py"].body
+                           if isinstance(one, (ast.FunctionDef, ast.ClassDef))}
+                defined |= {one.targets[0].id for one in TREES[PACKAGE / f"{stem}.py"].body
+                            if isinstance(one, ast.Assign)}
+                self.assertLessEqual(names, defined, path.name)
+        self.has_no_circle(leads)
+
+    def has_no_circle(self, leads):
+        while leads:
+            ready = [name for name in leads if not leads[name] & set(leads)]
+            self.assertTrue(ready, f"import one another: {sorted(leads)}")
+            leads = {name: leads[name] for name in leads if name not in ready}
+
+    def test_statements_and_signs(self):
+        for name, node in nodes(ast.stmt):
+            self.assertIsInstance(node, STATEMENTS, f"{name} {node.lineno}")
+        unwanted = (ast.Div, ast.Pow, ast.MatMult, ast.Yield, ast.YieldFrom, ast.Await, ast.GeneratorExp, ast.SetComp,
+                    ast.Set, ast.NamedExpr, ast.Lambda, ast.Mod)
+        self.assertEqual(nodes(unwanted), [])
+        for name, node in nodes(ast.Constant):
+            self.assertNotIsInstance(node.value, (float, complex, bytes))
+        for name, node in nodes(ast.Compare):
+            for sign, right in zip(node.ops, node.comparators):
+                if isinstance(sign, (ast.Is, ast.IsNot)):
+                    self.assertTrue(isinstance(right, ast.Constant), f"{name} {node.lineno}")
+
+    def test_handlers_name_own_errors(self):
+        own = {node.name for _, node in nodes(ast.ClassDef)} | {"KeyError"}
+        for name, node in nodes(ast.ExceptHandler):
+            self.assertIn(node.type.id, own, f"{name} {node.lineno}")
+        for name, node in nodes(ast.Raise):
+            self.assertTrue(isinstance(node.exc, ast.Call) and node.exc.func.id in own, f"{name} {node.lineno}")
+
+    def test_names(self):
+        for path, tree in TREES.items():
+            taken = {node.name for node in tree.body if isinstance(node, ast.ClassDef)}
+            taken |= {alias.name for node in tree.body if isinstance(node, ast.ImportFrom) for alias in node.names}
+            for node in ast.walk(tree):
+                if isinstance(node, ast.Name) and isinstance(node.ctx, ast.Store):
+                    self.is_free(node.id, taken, path)
+                elif isinstance(node, ast.arg):
+                    self.is_free(node.arg, taken, path)
+                elif isinstance(node, (ast.FunctionDef, ast.ClassDef)):
+                    if node.name != "__init__":
+                        self.is_free(node.name, set(), path)
+                elif isinstance(node, ast.Name) and isinstance(node.ctx, ast.Load):
+                    self.assertNotEqual(node.id, "_", path.name)
+                elif isinstance(node, ast.Attribute):
+                    self.assertRegex(node.attr, "^_?[A-Za-z][A-Za-z0-9_]*$")
+                    self.assertNotIn(node.attr, NOWHERE)
+
+    def is_free(self, word, taken, path):
+        where = f"{word} in {path.name}"
+        self.assertRegex(word, "^(_|_?[A-Za-z][A-Za-z0-9_]*)$", where)
+        self.assertFalse(hasattr(builtins, word), where)
+        self.assertNotIn(word, NOWHERE | BARRED, where)
+        self.assertNotIn(word, taken, where)
+
+    def test_words(self):
+        for path in FILES:
+            text = path.read_text(encoding="ascii")
+            for word in ("dataclass", "overload", "contextmanager", "_wall", "_WallAttr"):
+                self.assertNotIn(word, text, path.name)
+            for token in tokenize.generate_tokens(io.StringIO(text).readline):
+                if token.type == tokenize.NAME:
+                    self.assertNotIn(token.string, WORDS, f"{path.name} {token.start}")
+                if token.type == tokenize.STRING and not token.string.startswith('"""'):
+                    found = set(re.findall("[A-Za-z_]+", token.string)) & WORDS
+                    self.assertLessEqual(found, {"type"}, path.name)
+                    self.assertNotIn("%", token.string, path.name)
+                    self.assertFalse(re.search(r"\\[^n\"'\\]", token.string), path.name)
+
+    def test_calls_of_builtins(self):
+        for path, tree in TREES.items():
+            known = {node.name for node in tree.body if isinstance(node, (ast.FunctionDef, ast.ClassDef))}
+            known |= {alias.name for node in tree.body if isinstance(node, ast.ImportFrom) for alias in node.names}
+            for node in ast.walk(tree):
+                if isinstance(node, ast.Call) and isinstance(node.func, ast.Name) and node.func.id not in known:
+                    word = node.func.id
+                    if word != "fault":
+                        self.assertIn(word, BUILTINS, f"{path.name} {node.lineno}")
+                    allowed = KEYWORDS.get(word, set())
+                    self.assertLessEqual({part.arg for part in node.keywords}, allowed, f"{path.name} {node.lineno}")
+
+    def test_methods(self):
+        own = {part.name for _, node in nodes(ast.ClassDef) for part in node.body if isinstance(part, ast.FunctionDef)}
+        given = {node.attr for _, node in nodes(ast.Attribute) if isinstance(node.ctx, ast.Store)}
+        self.assertEqual(given & (ATTRIBUTES | METHODS), set())
+        self.assertEqual(given & own, set())
+        for name, node in nodes(ast.Call):
+            if isinstance(node.func, ast.Attribute):
+                self.assertIn(node.func.attr, own | METHODS, f"{name} {node.lineno}")
+                self.assertEqual(node.keywords, [], f"{name} {node.lineno}")
+        for name, node in nodes(ast.Attribute):
+            if isinstance(node.ctx, ast.Load):
+                self.assertIn(node.attr, own | METHODS | given, f"{name} {node.lineno}")
+
+    def test_iterated_at_once(self):
+        held = {"zip", "enumerate", "reversed", "range", "items", "keys", "values"}
+        for path, tree in TREES.items():
+            for node in ast.walk(tree):
+                if isinstance(node, (ast.Assign, ast.Return)) and isinstance(node.value, ast.Call):
+                    word = node.value.func
+                    name = word.id if isinstance(word, ast.Name) else word.attr
+                    self.assertNotIn(name, held, f"{path.name} {node.lineno}")
+                if isinstance(node, ast.Call) and isinstance(node.func, ast.Name) and node.func.id == "set":
+                    self.assertIn(node.lineno, self.lines_of_len(tree), f"{path.name} {node.lineno}")
+
+    def lines_of_len(self, tree):
+        return {node.lineno for node in ast.walk(tree) if isinstance(node, ast.Call)
+                and isinstance(node.func, ast.Name) and node.func.id in ("len", "sorted")
+                and isinstance(node.args[0], ast.Call)}
+
+    def test_loops_do_not_change_what_they_visit(self):
+        for name, node in nodes(ast.For):
+            visited = {ast.unparse(part) for part in ast.walk(node.iter) if isinstance(part, (ast.Name, ast.Attribute))}
+            for part in ast.walk(ast.Module(body=node.body, type_ignores=[])):
+                if isinstance(part, ast.Call) and isinstance(part.func, ast.Attribute):
+                    if part.func.attr in ("append", "extend", "insert", "pop", "remove", "clear", "update", "reverse"):
+                        self.assertNotIn(ast.unparse(part.func.value), visited, f"{name} {part.lineno}")
+                if isinstance(part, ast.Subscript) and isinstance(part.ctx, (ast.Store, ast.Del)):
+                    self.assertNotIn(ast.unparse(part.value), visited, f"{name} {part.lineno}")
+
+
+INTERFACE = {
+    "errors": "InterlineError ArgumentError PaperError SaleError TooMany TextError NetError LogError CommandError",
+    "words": "read_net write_net",
+    "checks": "check",
+    "calendar": "local_text local_time board",
+    "journeys": "journeys front legs accept_legs reach",
+}
+
+
+class InterfaceTest(unittest.TestCase):
+
+    def test_names_are_defined_where_they_are_listed(self):
+        for stem, words in INTERFACE.items():
+            defined = {node.name for node in TREES[PACKAGE / f"{stem}.py"].body
+                       if isinstance(node, (ast.FunctionDef, ast.ClassDef))}
+            self.assertLessEqual(set(words.split()), defined, stem)
+
+
+if __name__ == "__main__":
+    unittest.main()
