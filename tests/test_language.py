@@ -244,6 +244,13 @@ INTERFACE = {
     "checks": "check",
     "calendar": "local_text local_time board",
     "journeys": "journeys front legs accept_legs reach",
+    "courses": "courses actual",
+    "broken": "broken free_seats",
+    "fares": "construct price_table dear accept_price_table shares",
+    "inventory": "sold over available group",
+    "quotes": "quote accept_quote",
+    "choosing": "choose accept_choice greatest_sales accept_sales",
+    "sales": "replay history",
 }
 
 
