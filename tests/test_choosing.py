@@ -66,7 +66,9 @@ class ChooseTest(Case):
         self.assertEqual(choose(net, (), "F", requests), (16, ("a", "c", "f"), (None, 2, None, 1, 0, None)))
         self.assertEqual(choose(net, people("Y"), "F", requests)[:2], (11, ("a", "f")))
         self.assertEqual(choose(net, people("CC"), "F", requests)[:2], (9, ("a",)))
-        self.assertEqual(choose(net, people("ZZZZ"), "F", requests), (0, (), (0, 0, 0, 0, 0, 0)))
+        told = choose(net, people("ZZZZ"), "F", requests)
+        self.assertEqual(told[:2], (0, ()))
+        self.assertIsNone(accept_choice(net, people("ZZZZ"), "F", requests, told))
         self.assertEqual(choose(net, (), "F", ()), (0, (), ()))
 
     def test_against_all_choices(self):
