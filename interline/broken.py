@@ -2,7 +2,7 @@
 
 from interline.bookings import require_bookings
 from interline.charts import checked_chart
-from interline.courses import asked_course
+from interline.courses import asked_course, departures
 
 
 def broken(net, bookings, course):
@@ -27,8 +27,7 @@ def told_break(chart, flown, journey, leg, reason):
 def find_breaks(chart, flown, bookings):
     """Return for each booking the leg at which it is broken, behind the last one if it is kept, and the reason."""
     breaks = [own_break(chart, flown, journey) for _, _, journey in bookings]
-    order = [(flown[name][0], place, name) for place, name in enumerate(chart.flights) if flown[name] is not None]
-    for _, _, name in sorted(order):
+    for name in departures(chart, flown):
         unseated = without_seats(chart, bookings, carried_on(name, bookings, breaks), flown[name][2])
         for place in unseated:
             breaks[place] = (bookings[place][2].index(name), "bumped")
@@ -63,8 +62,13 @@ def free_seats(net, bookings, course):
     chart = checked_chart(net)
     flown = asked_course(chart, course)
     require_bookings(chart, bookings)
-    breaks = find_breaks(chart, flown, bookings)
-    return tuple([seats_left(flown[name], carried_on(name, bookings, breaks)) for name in chart.flights])
+    free = find_free(chart, flown, bookings, find_breaks(chart, flown, bookings))
+    return tuple([free[name] for name in chart.flights])
+
+
+def find_free(chart, flown, bookings, breaks):
+    """Return for each flight by its name the seats that are left, None if it is cancelled."""
+    return {name: seats_left(flown[name], carried_on(name, bookings, breaks)) for name in chart.flights}
 
 
 def seats_left(told, places):

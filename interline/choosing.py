@@ -117,7 +117,7 @@ def greatest_sales(net, bookings, offers):
     first = no_decisions(rows, stock)
     if count_rows(first, best.total, MAX_CHOICES) > MAX_CHOICES:
         raise TooMany("choices")
-    return (best.total, best.names, bound_paper(first, best.total))
+    return (best.total, best.taken, bound_paper(first, best.total))
 
 
 def asked_offers(net, bookings, offers):

@@ -17,8 +17,18 @@ def courses(net, threats, most):
 
 def asked_courses(chart, threats, most):
     """Return the courses for arguments that may be wrong; then raise ArgumentError."""
+    require_threats(chart, threats, most)
+    return find_courses(threats, most)
+
+
+def require_threats(chart, threats, most):
+    """Raise ArgumentError unless these are threats of the net and a greatest number of events."""
     require(are_threats(chart, threats), "threats")
     require(is_within(most, 0, MAX_EVENTS), "events")
+
+
+def find_courses(threats, most):
+    """Return all courses of at most so many of the threats in their order, or raise TooMany."""
     rows = rows_of([threat[1] for threat in threats], most)
     if len(rows) > MAX_COURSES:
         raise TooMany("courses")
@@ -103,3 +113,9 @@ def flown_at(chart, flight, event, ready):
     kind = event[2] if event[0] == "smaller" else flight.kind
     depart = max(flight.depart + late, ready)
     return (depart, depart + flight.arrive - flight.depart, chart.kinds[kind].seats)
+
+
+def departures(chart, flown):
+    """Return the names of the flights that are flown as they depart, those of one departure in the order of the net."""
+    order = [(flown[name][0], place, name) for place, name in enumerate(chart.flights) if flown[name] is not None]
+    return [name for _, _, name in sorted(order)]

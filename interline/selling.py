@@ -19,10 +19,10 @@ class Offer:
 class Decisions:
     """A row of decisions on the first offers, and the stock that it leaves."""
 
-    def __init__(self, offers, decided, names, total, stock):
+    def __init__(self, offers, decided, taken, total, stock):
         self.offers = offers
         self.decided = decided
-        self.names = names
+        self.taken = taken
         self.total = total
         self.stock = stock
         self.bound = total + sum([offer.price for offer in offers[decided:] if self.is_open(offer)])
@@ -39,11 +39,11 @@ class Decisions:
         """Return the row with the next offer taken."""
         offer = self.offers[self.decided]
         stock = self.stock.behind(offer.journey, offer.rank)
-        return Decisions(self.offers, self.decided + 1, (*self.names, offer.name), self.total + offer.price, stock)
+        return Decisions(self.offers, self.decided + 1, (*self.taken, offer.name), self.total + offer.price, stock)
 
     def leaving(self):
         """Return the row with the next offer left."""
-        return Decisions(self.offers, self.decided + 1, self.names, self.total, self.stock)
+        return Decisions(self.offers, self.decided + 1, self.taken, self.total, self.stock)
 
     def further(self):
         """Return the rows that this one leads to: with the next offer taken, if it is open, and left."""

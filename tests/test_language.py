@@ -251,6 +251,17 @@ INTERFACE = {
     "quotes": "quote accept_quote",
     "choosing": "choose accept_choice greatest_sales accept_sales",
     "sales": "replay history",
+    "tickets": "Office reopen takings",
+    "bags": "short forward bag_times accept_bag_times",
+    "scans": "judge scan_plan",
+    "mending": "ways least_mend accept_mend",
+    "book": "guard accept_guard worst",
+    "shifting": "least_shifts accept_shifts",
+    "volunteers": "volunteers bid_table accept_bid_table",
+}
+
+METHODS_OF_CLASSES = {
+    ("tickets", "Office"): "sell fly change refund mend ledger ticket names bookings log",
 }
 
 
@@ -261,6 +272,12 @@ class InterfaceTest(unittest.TestCase):
             defined = {node.name for node in TREES[PACKAGE / f"{stem}.py"].body
                        if isinstance(node, (ast.FunctionDef, ast.ClassDef))}
             self.assertLessEqual(set(words.split()), defined, stem)
+
+    def test_methods_are_defined_in_their_classes(self):
+        for (stem, name), words in METHODS_OF_CLASSES.items():
+            body = [node for node in TREES[PACKAGE / f"{stem}.py"].body
+                    if isinstance(node, ast.ClassDef) and node.name == name][0].body
+            self.assertLessEqual(set(words.split()), {node.name for node in body if isinstance(node, ast.FunctionDef)})
 
 
 if __name__ == "__main__":
