@@ -24,6 +24,15 @@ def check(net):
             raise NetError((FLIGHTS, place), "alone")
 
 
+def is_net(value):
+    """Tell whether a value is a net that keeps all rules."""
+    try:
+        check(value)
+    except NetError:
+        return False
+    return True
+
+
 def check_numbers(net):
     """Raise NetError for the first part that has too many rows, or for no class."""
     most = (MAX_STATIONS, MAX_TYPES, MAX_CLASSES, MAX_FLIGHTS, MAX_TAILS, MAX_FARES)

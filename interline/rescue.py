@@ -4,7 +4,8 @@ from interline.asking import require
 from interline.broken import find_breaks, find_free, told_break
 from interline.errors import TooMany
 from interline.kinds import is_row, is_within
-from interline.limits import MAX_COIN, MAX_STOPS, MAX_WAIT, MAX_WAYS
+from interline.limits import MAX_COIN, MAX_WAIT, MAX_WAYS
+from interline.routes import rows_to
 
 
 class Damage:
@@ -30,7 +31,9 @@ def find_damage(chart, flown, bookings, prices):
     """Return the damage to bookings where flights are flown so, or raise TooMany."""
     breaks = find_breaks(chart, flown, bookings)
     free = find_free(chart, flown, bookings, breaks)
-    exits = exits_of(chart, [name for name, seats in free.items() if seats is not None and seats > 0])
+    flights = chart.flights_of([name for name, seats in free.items() if seats is not None and seats > 0])
+    after = {before.name: [flight for flight in flights if can_go_on(chart, flown, before, flight)]
+             for before in flights}
     kept = {}
     places = []
     rows = []
@@ -41,19 +44,11 @@ def find_damage(chart, flown, bookings, prices):
             key = (told[1], first_departure(chart, told), chart.flights[journey[-1]].end)
             # Those who are broken alike have the same journeys, so these are searched once.
             if key not in kept:
-                kept[key] = rows_home(chart, flown, exits, key)
+                kept[key] = rows_home(flown, flights, after, key)
             places.append(place)
             rows.append(priced_ways(flown, kept[key], chart.flights[journey[-1]].arrive,
                                     [part[chart.ranks[cabin]] for part in prices]))
     return Damage(places, rows, free)
-
-
-def exits_of(chart, names):
-    """Return for each station those of some flights that start there."""
-    exits = {station: [] for station in chart.stations}
-    for flight in chart.flights_of(names):
-        exits[flight.start].append(flight)
-    return exits
 
 
 def first_departure(chart, told):
@@ -62,26 +57,22 @@ def first_departure(chart, told):
     return time if leg == 0 else time + chart.stations[station].least
 
 
-def rows_home(chart, flown, exits, key):
+def rows_home(flown, flights, after, key):
     """Return all rows of flights from a station at a time that come to an end at last, and not before."""
     start, time, end = key
-    rows = [[flight] for flight in exits[start] if flown[flight.name][0] >= time]
-    found = []
-    for stops in range(MAX_STOPS + 1):
-        if stops > 0:
-            rows = [[*row, flight] for row in rows if row[-1].end != end
-                    for flight in exits[row[-1].end] if can_go_on(chart, flown, row[-1], flight)]
-        found.extend([row for row in rows if row[-1].end == end])
-        # The money back is a way, too.
-        if len(found) >= MAX_WAYS:
-            raise TooMany("ways")
-    return found
+    first = [[flight] for flight in flights if flight.start == start and flown[flight.name][0] >= time]
+    rows = rows_to(first, after, end)
+    # The money back is a way, too.
+    if len(rows) >= MAX_WAYS:
+        raise TooMany("ways")
+    return rows
 
 
 def can_go_on(chart, flown, before, flight):
-    """Tell whether a flight departs in time, but not too late, behind the one that ends at its start."""
-    wait = flown[flight.name][0] - flown[before.name][1]
-    return chart.stations[flight.start].least <= wait <= MAX_WAIT
+    """Tell whether a flight departs where another one ends, in time behind it, but not too late."""
+    if flight.start != before.end:
+        return False
+    return chart.stations[flight.start].least <= flown[flight.name][0] - flown[before.name][1] <= MAX_WAIT
 
 
 def priced_ways(flown, rows, told_arrival, parts):

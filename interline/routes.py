@@ -35,6 +35,19 @@ def longer_rows(chart, rows, usable):
             if chart.can_follow(row[-1], flight) and is_new_station(row, flight.end)]
 
 
+def rows_to(rows, after, end):
+    """Return all rows that go on from rows of one flight and come to an end at last, but not before.
+
+    The flights that may stand directly behind each flight are given by its name.
+    """
+    found = []
+    for stops in range(MAX_STOPS + 1):
+        if stops > 0:
+            rows = [[*row, flight] for row in rows if row[-1].end != end for flight in after[row[-1].name]]
+        found.extend([row for row in rows if row[-1].end == end])
+    return found
+
+
 def is_new_station(row, station):
     """Tell whether a row of flights comes to a station neither at its start nor later."""
     return row[0].start != station and station not in [flight.end for flight in row]

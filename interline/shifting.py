@@ -4,9 +4,9 @@ from interline.asking import require
 from interline.book import Book, accept_book, close_book, require_book
 from interline.bookings import are_bookings
 from interline.charts import Chart, checked_chart
-from interline.checks import check
+from interline.checks import is_net
 from interline.courses import find_courses
-from interline.errors import NetError, PaperError
+from interline.errors import PaperError
 from interline.forms import FLIGHTS
 from interline.kinds import are_same, is_known, is_row, is_short, is_within
 from interline.limits import MAX_SHIFTS, MAX_STEPS
@@ -52,9 +52,7 @@ def is_shift(chart, value):
 def chart_behind(net, row):
     """Return the chart of the net behind some shifts, or None if `check` does not accept it."""
     shifted = net[:FLIGHTS] + (shifted_flights(net[FLIGHTS], row),) + net[FLIGHTS + 1:]
-    try:
-        check(shifted)
-    except NetError:
+    if not is_net(shifted):
         return None
     return Chart(shifted)
 

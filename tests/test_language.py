@@ -258,6 +258,13 @@ INTERFACE = {
     "book": "guard accept_guard worst",
     "shifting": "least_shifts accept_shifts",
     "volunteers": "volunteers bid_table accept_bid_table",
+    "aircraft": "deficits rotation accept_deficits least_tails refitted swaps swapped",
+    "crews": "links least_duties accept_duties reserves",
+    "gates": "stands least_gates gate_plan accept_gate_plan",
+    "promises": "promise promises safest",
+    "causes": "causes blame",
+    "room": "room_for accept_room",
+    "days": "play play_plan",
 }
 
 METHODS_OF_CLASSES = {
