@@ -16,31 +16,34 @@ FG = ("F", "G")
 WRONG_JOURNEYS = (None, 5, "F", (), ["F"], ("X",), ("F", 1), ("G", "F"), ("F", "I"), ("F", "F"), (("F",),), True)
 
 
-def told_promise(net, journey, rows):
+def told_days(net, rows):
+    """Each course with what becomes of the flights in it."""
+    return [(course, dict(zip([row[0] for row in net[3]], actual(net, course)))) for course in rows]
+
+
+def told_promise(net, journey, days):
     """What points 117 and 118 tell, word for word."""
-    names = [row[0] for row in net[3]]
     least = {row[0]: row[2] for row in net[0]}
     start = {row[0]: row[1] for row in net[3]}
     arrivals = []
-    for course in rows:
-        told = dict(zip(names, actual(net, course)))
+    for course, told in days:
         for leg, name in enumerate(journey):
             if told[name] is None:
                 return ("broken", course, leg, "cancelled")
             if leg and told[name][0] - told[journey[leg - 1]][1] < least[start[name]]:
                 return ("broken", course, leg, "missed")
         arrivals.append(told[journey[-1]][1])
-    return ("kept", max(arrivals), rows[arrivals.index(max(arrivals))])
+    return ("kept", max(arrivals), days[arrivals.index(max(arrivals))][0])
 
 
-def told_safest(net, start, end, earliest, rows):
+def told_safest(net, start, end, earliest, days):
     """What point 119 tells, by asking for the promise of every journey."""
     found = []
     for row in all_journeys(net):
         ends = [flight[2] for flight in row]
         if row[0][1] == start and row[0][3] >= earliest and ends[-1] == end and end not in ends[:-1]:
             journey = tuple(flight[0] for flight in row)
-            told = told_promise(net, journey, rows)
+            told = told_promise(net, journey, days)
             if told[0] == "kept":
                 found.append((told[1], journey, told[2]))
     return min(found, key=lambda row: row[:2], default=None)
@@ -91,8 +94,8 @@ class PromiseTest(Case):
             net = random_net(seed, tails=4, longest=6, span=100)
             bookings = random_bookings(seed, net, 12)
             threats = tuple(dict.fromkeys(random_course(seed, net) + random_course(seed + 900, net)))
-            rows = courses(net, threats, 2)
-            told = tuple(told_promise(net, journey, rows) for _, _, journey in bookings)
+            days = told_days(net, courses(net, threats, 2))
+            told = tuple(told_promise(net, journey, days) for _, _, journey in bookings)
             self.assertEqual(promises(net, bookings, threats, 2), told)
             for (_, _, journey), row in list(zip(bookings, told))[:3]:
                 self.assertEqual(promise(net, journey, threats, 2), row)
@@ -167,11 +170,11 @@ class SafestTest(Case):
             chance = random.Random(seed)
             net = random_net(seed, tails=5, longest=6, span=100, stations=3)
             threats = tuple(dict.fromkeys(random_course(seed, net) + random_course(seed + 900, net)))[:3]
-            rows = courses(net, threats, 2)
+            days = told_days(net, courses(net, threats, 2))
             for start in "ABC":
                 for end in "ABC":
                     earliest = chance.choice((0, 0, 100, 300))
-                    told = told_safest(net, start, end, earliest, rows)
+                    told = told_safest(net, start, end, earliest, days)
                     self.assertEqual(safest(net, start, end, earliest, threats, 2), told)
                     seen["found" if told else "none"] += 1
                     seen["far"] += bool(told and len(told[1]) > 1)
@@ -183,6 +186,7 @@ class SafestTest(Case):
         for value in (*VALUES, "T", ["A"]):
             if value != "A":
                 self.wrong_argument("station", safest, NET, value, None, None, None, None)
+                self.wrong_argument("station", safest, NET, value, "A", None, None, None)
                 self.wrong_argument("station", safest, NET, "A", value, None, None, None)
         for value in (-1, 20161, None, True, "5", (), 10 ** 40):
             self.wrong_argument("earliest", safest, NET, "A", "B", value, None, None)
