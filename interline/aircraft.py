@@ -79,7 +79,7 @@ def find_rotation(chart, kind):
             rows.append([flight])
         else:
             rows[min(ready)[1]].append(flight)
-    return tuple([tuple([flight.name for flight in row]) for row in rows])
+    return tuple([tuple([other.name for other in row]) for row in rows])
 
 
 def refitted(net):

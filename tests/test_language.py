@@ -211,6 +211,23 @@ class LanguageTest(unittest.TestCase):
             if isinstance(node.ctx, ast.Load):
                 self.assertIn(node.attr, own | METHODS | given, f"{name} {node.lineno}")
 
+    def test_variables_of_comprehensions_in_others(self):
+        for name, function in nodes(ast.FunctionDef):
+            comprehensions = [node for node in ast.walk(function) if isinstance(node, (ast.ListComp, ast.DictComp))]
+            own = {id(part) for node in comprehensions for part in ast.walk(node)}
+            taken = {part.arg for part in function.args.args}
+            taken |= {part.id for part in ast.walk(function)
+                      if isinstance(part, ast.Name) and isinstance(part.ctx, ast.Store) and id(part) not in own}
+            for outer in comprehensions:
+                for inner in ast.walk(outer):
+                    if inner is not outer and isinstance(inner, (ast.ListComp, ast.DictComp)):
+                        targets = self.targets(inner)
+                        self.assertEqual(targets & (taken | self.targets(outer)), set(), f"{name} {inner.lineno}")
+
+    def targets(self, comprehension):
+        return {part.id for one in comprehension.generators for part in ast.walk(one.target)
+                if isinstance(part, ast.Name)} - {"_"}
+
     def test_iterated_at_once(self):
         held = {"zip", "enumerate", "reversed", "range", "items", "keys", "values"}
         for path, tree in TREES.items():
