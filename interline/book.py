@@ -3,15 +3,16 @@
 from interline.asking import require
 from interline.bookings import require_bookings
 from interline.charts import checked_chart
-from interline.courses import find_courses, flown_in, require_threats
+from interline.courses import find_courses, require_threats
 from interline.errors import PaperError
 from interline.kinds import are_same, is_integer, is_row
-from interline.plans import cheapest_plan, dearest_backs, is_plan_paper, no_choices, plan_cost, plan_paper
+from interline.plans import best_plan, cheapest_plan, is_plan_paper, no_choices, plan_cost, plan_paper
 from interline.rescue import find_damage, require_prices
+from interline.standby import flown_with, relieved
 
 
 class Book:
-    """What a book is kept for: bookings, the courses of a net, prices and a bound."""
+    """What a book is kept for: bookings, the courses of a net, prices, a bound, and spares that stand by."""
 
     def __init__(self, chart, bookings, rows, prices, bound):
         self.chart = chart
@@ -19,10 +20,21 @@ class Book:
         self.rows = rows
         self.prices = prices
         self.bound = bound
+        self.spares = ()
+        self.visited = {}
 
     def damage_in(self, course):
         """Return the damage in a course, or raise TooMany."""
-        return find_damage(self.chart, flown_in(self.chart, course), self.sold, self.prices)
+        return find_damage(self.chart, flown_with(self.chart, self.spares, course), self.sold, self.prices)
+
+    def plan_in(self, course):
+        """Return the cheapest plan of a course, None if it costs more than the bound; or raise TooMany."""
+        # A course that takes the same spares of other ones is the same day.
+        key = relieved(self.chart, self.spares, course)
+        if key not in self.visited:
+            best = cheapest_plan(no_choices(self.damage_in(course)), self.bound)
+            self.visited[key] = None if best is None else best.made
+        return self.visited[key]
 
 
 def require_book(chart, bookings, threats, most, prices, bound):
@@ -52,14 +64,21 @@ def asked_book(net, bookings, threats, most, prices, bound):
 
 def close_book(book):
     """Return the answer of a guard, or raise TooMany."""
+    entries, course = visit_courses(book)
+    if course is None:
+        return ("kept", entries)
+    return ("broken", course, plan_paper(no_choices(book.damage_in(course)), book.bound + 1))
+
+
+def visit_courses(book):
+    """Return the entries up to the first course that breaks the bound, and this course, None if there is none."""
     entries = []
     for course in book.rows:
-        first = no_choices(book.damage_in(course))
-        plan = cheapest_plan(first, book.bound)
+        plan = book.plan_in(course)
         if plan is None:
-            return ("broken", course, plan_paper(first, book.bound + 1))
-        entries.append((course, plan.made))
-    return ("kept", tuple(entries))
+            return tuple(entries), course
+        entries.append((course, plan))
+    return tuple(entries), None
 
 
 def accept_guard(net, bookings, threats, most, prices, bound, told):
@@ -104,7 +123,6 @@ def worst(net, bookings, threats, most, prices):
     book = Book(chart, bookings, find_courses(threats, most), prices, 0)
     found = []
     for place, course in enumerate(book.rows):
-        damage = book.damage_in(course)
-        found.append((-cheapest_plan(no_choices(damage), dearest_backs(damage)).cost, place))
+        found.append((-best_plan(no_choices(book.damage_in(course))).cost, place))
     cost, place = min(found)
     return (-cost, book.rows[place])

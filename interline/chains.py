@@ -3,6 +3,8 @@
 The things are told by their places. A pair of places says that the second one may stand directly behind the first one.
 """
 
+from interline.kinds import is_known, is_row
+
 
 def after_each(many, pairs):
     """Return for each place those that may stand directly behind it."""
@@ -59,3 +61,16 @@ def cover_for(after, before, follow):
                 waiting.append(before[other])
     outs = [("out", place) for place in range(len(after)) if place not in reached]
     return outs + [("in", place) for place in ins]
+
+
+def is_end(value):
+    """Tell whether a value has the form of an end, whatever its second part is."""
+    return is_row(value, 2) and is_known(value[0], ("out", "in"))
+
+
+def has_each(ends, pairs):
+    """Tell whether no end stands twice in a tuple of ends, and each of some pairs has one of its own there."""
+    table = {end: True for end in ends}
+    if len(table) != len(ends):
+        return False
+    return all([("out", first) in table or ("in", second) in table for first, second in pairs])

@@ -74,20 +74,33 @@ def actual(net, course):
 
 def asked_course(chart, course):
     """Return what becomes of the flights in a course that may be wrong; then raise ArgumentError."""
-    require(is_course(chart, course), "course")
+    require_course(chart, course)
     return flown_in(chart, course)
+
+
+def require_course(chart, course):
+    """Raise ArgumentError unless a value is a course of the net."""
+    require(is_course(chart, course), "course")
 
 
 def flown_in(chart, course):
     """Return what becomes of the flights in a course: by name, None or (depart, arrive, seats)."""
+    return flown_held(chart, course, ())
+
+
+def flown_held(chart, course, holds):
+    """Return what becomes of the flights in a course where some flights are held: pairs of a name and minutes."""
     events = {event[1]: event for event in course}
+    waits = {event[1]: event[2] for event in course if event[0] == "late"}
+    for name, minutes in holds:
+        waits[name] = max(minutes, waits.get(name, 0))
     flown = {}
     for tail in chart.tails.values():
-        flown.update(flown_by(chart, tail, events))
+        flown.update(flown_by(chart, tail, events, waits))
     return flown
 
 
-def flown_by(chart, tail, events):
+def flown_by(chart, tail, events, waits):
     """Return what becomes of the flights of a tail, by name."""
     found = {}
     flights = chart.flights_of(tail.flights)
@@ -101,18 +114,12 @@ def flown_by(chart, tail, events):
         if event[0] == "cancel" or stand != flight.start:
             found[flight.name] = None
         else:
-            found[flight.name] = flown_at(chart, flight, event, ready)
+            depart = max(flight.depart + waits.get(flight.name, 0), ready)
+            kind = event[2] if event[0] == "smaller" else flight.kind
+            found[flight.name] = (depart, depart + flight.arrive - flight.depart, chart.kinds[kind].seats)
             stand = flight.end
             ready = found[flight.name][1] + chart.kinds[tail.kind].turn
     return found
-
-
-def flown_at(chart, flight, event, ready):
-    """Return (depart, arrive, seats) of a flight that is flown by a tail that is ready at a time."""
-    late = event[2] if event[0] == "late" else 0
-    kind = event[2] if event[0] == "smaller" else flight.kind
-    depart = max(flight.depart + late, ready)
-    return (depart, depart + flight.arrive - flight.depart, chart.kinds[kind].seats)
 
 
 def departures(chart, flown):

@@ -2,7 +2,7 @@
 
 from interline.asking import require
 from interline.calendar import local_day
-from interline.chains import after_each, fewest_chains
+from interline.chains import after_each, fewest_chains, has_each, is_end
 from interline.charts import checked_chart
 from interline.courses import asked_courses, flown_in
 from interline.errors import PaperError
@@ -77,17 +77,9 @@ def is_duty(chart, sits, value):
 
 def is_cover(chart, sits, value):
     """Tell whether a value is a tuple of unlike ends, of which each link has one."""
-    if not all([is_end(chart, end) for end in value]):
+    if not all([is_end(end) and is_known(end[1], chart.flights) for end in value]):
         return False
-    ends = {end: True for end in value}
-    if len(ends) != len(value):
-        return False
-    return all([("out", first) in ends or ("in", second) in ends for first, second in find_links(chart, sits)])
-
-
-def is_end(chart, value):
-    """Tell whether a value is an end of a flight."""
-    return is_row(value, 2) and is_known(value[0], ("out", "in")) and is_known(value[1], chart.flights)
+    return has_each(value, find_links(chart, sits))
 
 
 def reserves(net, sits, duties, threats, most):

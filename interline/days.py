@@ -4,7 +4,7 @@ from interline.asking import require
 from interline.broken import find_breaks
 from interline.courses import asked_course, departures
 from interline.errors import PaperError
-from interline.plans import cheapest_plan, dearest_backs, no_choices, plan_cost
+from interline.plans import best_plan, no_choices, plan_cost
 from interline.rescue import find_damage, require_prices
 from interline.routes import is_journey
 from interline.tickets import do_deed, reopen
@@ -44,7 +44,7 @@ class Day:
 def play(net, log, course, prices):
     """Return the least cost of a day, the deeds, the ledgers behind them, and when the travellers are home."""
     day = asked_day(net, log, course, prices)
-    best = cheapest_plan(no_choices(day.damage), dearest_backs(day.damage))
+    best = best_plan(no_choices(day.damage))
     return played(day, best.cost, best.made)
 
 

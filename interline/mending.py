@@ -2,10 +2,10 @@
 
 from interline.bookings import require_bookings
 from interline.charts import checked_chart
-from interline.courses import asked_course
+from interline.courses import flown_in, require_course
 from interline.errors import PaperError
 from interline.kinds import is_integer, is_row
-from interline.plans import cheapest_plan, dearest_backs, is_plan_paper, no_choices, plan_cost, plan_paper
+from interline.plans import best_plan, is_plan_paper, no_choices, plan_cost, plan_paper
 from interline.rescue import find_damage, require_prices
 
 
@@ -17,18 +17,24 @@ def ways(net, bookings, course, prices):
 
 def asked_damage(net, bookings, course, prices):
     """Return the damage in a course for arguments that may be wrong."""
+    chart = asked_day(net, bookings, course, prices)
+    return find_damage(chart, flown_in(chart, course), bookings, prices)
+
+
+def asked_day(net, bookings, course, prices):
+    """Return the chart of a net for a course, bookings and prices that may be wrong."""
     chart = checked_chart(net)
-    flown = asked_course(chart, course)
+    require_course(chart, course)
     require_bookings(chart, bookings)
     require_prices(chart, prices)
-    return find_damage(chart, flown, bookings, prices)
+    return chart
 
 
 def least_mend(net, bookings, course, prices):
     """Return the least cost of all plans, a plan that has it, and the paper that none costs less."""
     damage = asked_damage(net, bookings, course, prices)
     first = no_choices(damage)
-    best = cheapest_plan(first, dearest_backs(damage))
+    best = best_plan(first)
     return (best.cost, best.made, plan_paper(first, best.cost))
 
 

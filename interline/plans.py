@@ -71,6 +71,11 @@ def dearest_backs(damage):
     return sum([cost for ways in damage.ways for cost, journey in ways if journey is None])
 
 
+def best_plan(first):
+    """Return the whole row of the least cost behind an empty one, or raise TooMany."""
+    return cheapest_plan(first, dearest_backs(first.damage))
+
+
 def cheapest_plan(first, most):
     """Return the whole row of the least cost behind an empty one, None if it costs more than `most`.
 
