@@ -293,6 +293,13 @@ INTERFACE = {
     "seating": "seat_table seated accept_seat_table",
     "holds": "actual_held cost_held least_holds",
     "values": "seat_values fair_shares weak_courses",
+    "spares": "actual_with guard_with accept_guard_with least_spares accept_spares",
+    "rosters": "turns least_rosters accept_rosters",
+    "merging": "changed merge",
+    "carriers": "statement balances group_table least_payments accept_group_table accept_payments",
+    "papers": "write_answer read_answer is_answer",
+    "tolerance": "tolerance accept_tolerance curve",
+    "waves": "connections weak_connections busiest quietest",
 }
 
 METHODS_OF_CLASSES = {
