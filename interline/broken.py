@@ -27,11 +27,21 @@ def told_break(chart, flown, journey, leg, reason):
 def find_breaks(chart, flown, bookings):
     """Return for each booking the leg at which it is broken, behind the last one if it is kept, and the reason."""
     breaks = [own_break(chart, flown, journey) for _, _, journey in bookings]
+    riders = riders_of(chart, bookings)
     for name in departures(chart, flown):
-        unseated = without_seats(chart, bookings, carried_on(name, bookings, breaks), flown[name][2])
+        unseated = without_seats(chart, bookings, carried(riders[name], breaks), flown[name][2])
         for place in unseated:
             breaks[place] = (bookings[place][2].index(name), "bumped")
     return breaks
+
+
+def riders_of(chart, bookings):
+    """Return for each flight by its name the bookings that have it: their places, and its leg in their journeys."""
+    riders = {name: [] for name in chart.flights}
+    for place, (_, _, journey) in enumerate(bookings):
+        for leg, name in enumerate(journey):
+            riders[name].append((place, leg))
+    return riders
 
 
 def own_break(chart, flown, journey):
@@ -45,9 +55,9 @@ def own_break(chart, flown, journey):
     return (len(journey), None)
 
 
-def carried_on(name, bookings, breaks):
-    """Return the places of the bookings that are carried on a flight, as far as their breaks are known."""
-    return [place for place, (leg, _) in enumerate(breaks) if name in bookings[place][2][:leg]]
+def carried(rows, breaks):
+    """Return the places of those bookings that have a flight and are carried on it, as far as breaks are known."""
+    return [place for place, leg in rows if leg < breaks[place][0]]
 
 
 def without_seats(chart, bookings, places, seats):
@@ -68,7 +78,7 @@ def free_seats(net, bookings, course):
 
 def find_free(chart, flown, bookings, breaks):
     """Return for each flight by its name the seats that are left, None if it is cancelled."""
-    return {name: seats_left(flown[name], carried_on(name, bookings, breaks)) for name in chart.flights}
+    return {name: seats_left(flown[name], carried(rows, breaks)) for name, rows in riders_of(chart, bookings).items()}
 
 
 def seats_left(told, places):

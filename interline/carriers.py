@@ -5,6 +5,7 @@ from interline.charts import checked_chart
 from interline.errors import PaperError
 from interline.kinds import are_integers, are_strings, are_unlike, is_integer, is_row, is_short, is_within
 from interline.limits import MAX_CARRIERS
+from interline.subsets import members
 from interline.tickets import reopen
 
 
@@ -78,18 +79,13 @@ def entry_for(rests, table, number):
     """Return the entry of a set of carriers, by those of lesser sets."""
     if number == 0:
         return 0
-    best = max([table[number - (1 << place)] for place in members(rests, number)])
+    best = max([table[number - (1 << place)] for place in members(number)])
     return best + 1 if is_even(rests, number) else best
-
-
-def members(rests, number):
-    """Return the places of the carriers of a set."""
-    return [place for place in range(len(rests)) if number & (1 << place) > 0]
 
 
 def is_even(rests, number):
     """Tell whether the sum of the balances of a set is 0."""
-    return sum([rests[place] for place in members(rests, number)]) == 0
+    return sum([rests[place] for place in members(number)]) == 0
 
 
 def accept_group_table(owed, table):
@@ -120,7 +116,7 @@ def groups_of(rests, table):
         if is_even(rests, number):
             groups.append([])
         # Each carrier that leaves belongs to the group that was closed last.
-        best = [place for place in members(rests, number)
+        best = [place for place in members(number)
                 if table[number] - table[number - (1 << place)] == (1 if is_even(rests, number) else 0)]
         groups[-1].append(best[0])
         number -= 1 << best[0]

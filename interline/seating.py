@@ -4,6 +4,7 @@ from interline.asking import require
 from interline.errors import PaperError
 from interline.kinds import are_integers, are_unlike, is_row, is_short, is_within
 from interline.limits import MAX_GROUPS, MAX_SEATED
+from interline.subsets import members
 
 MAX_ROWS = 99
 
@@ -37,13 +38,8 @@ def find_table(groups, seats):
 
 def entry_for(groups, seats, table, number):
     """Return the entry of a set of groups, by those of lesser sets."""
-    return min([behind(table[number - (1 << place)], groups[place][1], seats) for place in members(groups, number)],
+    return min([behind(table[number - (1 << place)], groups[place][1], seats) for place in members(number)],
                default=(0, 0))
-
-
-def members(groups, number):
-    """Return the places of the groups of a set."""
-    return [place for place in range(len(groups)) if number & (1 << place) > 0]
 
 
 def behind(entry, size, seats):
@@ -64,7 +60,7 @@ def seated(groups, rows, seats):
     """Return the greatest number of groups that can sit together, and the names in each row that is used."""
     require_groups(groups, rows, seats)
     table = find_table(groups, seats)
-    fitting = [(len(members(groups, number)), number) for number, entry in enumerate(table) if rows_used(entry) <= rows]
+    fitting = [(len(members(number)), number) for number, entry in enumerate(table) if rows_used(entry) <= rows]
     many, best = max(fitting)
     return (many, seating_of(groups, seats, table, best))
 
@@ -88,7 +84,7 @@ def order_of(groups, seats, table, number):
     """Return an order of the groups of a set in which they come to its entry."""
     order = []
     while number > 0:
-        for place in members(groups, number):
+        for place in members(number):
             rest = number - (1 << place)
             if behind(table[rest], groups[place][1], seats) == table[number]:
                 order.append(place)
