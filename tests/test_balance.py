@@ -174,6 +174,12 @@ class AcceptBalancedTest(Case):
         self.rejects("side", PLANE, 1, ("tipped", "fore", ("a",)), ("tipped", "aft", ()))
         self.rejects("side", self.TIPPING, 1, ("tipped", "aft", ("a",)), ("tipped", "fore", ()), ("tipped", "fore", ("b",)))
 
+    def test_centres_at_the_ends_do_not_tip(self):
+        for arm, side in ((0, "fore"), (10, "aft")):
+            self.wrong_paper("side", accept_balanced, ((1, arm), 0, 10), (), 0, ("tipped", side, ()))
+        self.assertIsNone(accept_balanced(((1, -1), 0, 10), (), 0, ("tipped", "fore", ())))
+        self.assertIsNone(accept_balanced(((1, 11), 0, 10), (), 0, ("tipped", "aft", ())))
+
     def test_slacks_are_not_told_by_booleans(self):
         plane = ((1, 0), 0, 1)
         self.assertEqual(balanced(plane, (), 0), ("kept", (0, 1)))

@@ -150,6 +150,14 @@ class AcceptSlotsTest(Case):
         # A way that costs more has no right prices.
         self.rejects("prices", (told_cost(REQUESTS, (1, 0, 2)), (1, 0, 2), prices))
 
+    def test_prices_below_nothing(self):
+        # No window has room left, so all prices may be more alike, but not less than 0.
+        told = least_slots(REQUESTS, 3, 1)
+        cost, given, prices = told
+        self.assertIsNone(accept_slots(REQUESTS, 3, 1, (cost, given, tuple(price + 7 for price in prices))))
+        self.wrong_paper("prices", accept_slots, REQUESTS, 3, 1,
+                         (cost, given, tuple(price - min(prices) - 1 for price in prices)))
+
     def test_more_requests_than_room(self):
         self.wrong_paper("form", accept_slots, REQUESTS, 2, 1, None)
         for given in ((0, 1), (0, 1, 1), (0, 1, 2)):

@@ -105,6 +105,10 @@ class LoadTest(SessionCase):
         self.assertEqual(session.answer("mend 1"), ("least 0",))
         self.assertEqual(session.answer("guard"), ("broken", "course cancel F"))
         self.assertEqual(session.answer("holds 7"), ("least 0",))
+        session.answer("price Y 1 1")
+        self.assertEqual(session.answer("guard"), ("broken", "course cancel F"))
+        session.answer("bound 1")
+        self.assertEqual(session.answer("guard"), ("kept 4",))
 
     def test_texts_that_cannot_be_read(self):
         for text, at in ((None, 0), (5, 0), ("", 0), ("(station", 8), (TEXT + "%", len(TEXT)), (True, 0), ("x" * 12001, 0)):
@@ -243,6 +247,11 @@ class LinesTest(SessionCase):
         self.answers("play 0", "least 90", "ledger 390 0 390 0 0")
         self.answers("play 1", "least 1000", "ledger 307 0 307 0 0")
         session = Session()
+        session.load("(station A 0 30) (station B 0 30) (type T 9 20) (classes Y) (flight F A B 0 20160 T 100 (limits 9)) "
+                     "(tail N T F) (fare X A B Y 70 0 10 50)")
+        self.assertEqual(session.answer("quote Y A B 0"), ("price 70 F",))
+        self.assertEqual(session.answer("safest A B 0"), ("kept 20160 F",))
+        session = Session()
         session.load("(station A 0 30) (classes Y)")
         self.assertEqual(session.answer("gates A 5"), ("gates 0 none", "course"))
         self.assertEqual(session.answer("play"), ("least 0", "ledger 0 0 0 0 0"))
@@ -345,6 +354,37 @@ class LinesTest(SessionCase):
 
     def told_play(self, office, answer):
         return [words("least", answer[0]), words("ledger", *(answer[2][-1] if answer[2] else office.ledger()))]
+
+
+class HoldsTest(SessionCase):
+
+    def session_of_two(self, ahead):
+        """A session of a flight with two connections, behind so many flights of no use; the two are told last."""
+        kinds = "(type T 9 20) (type U 9 20) (type V 9 20) (type W 9 20)"
+        rows = [f"(flight X{number} A B {100 * number} {100 * number + 5} W 5 (limits 9 9))"
+                f"(flight Y{number} B A {100 * number + 50} {100 * number + 55} W 5 (limits 9 9))" for number in range(ahead)]
+        tail = " ".join(f"X{number} Y{number}" for number in range(ahead))
+        session = Session()
+        session.load(f"(station A 0 0) (station B 0 30) (station C 0 30) (station D 0 30) {kinds} (classes C Y)" + "".join(rows)
+                     + "(flight F A B 0 60 T 100 (limits 9 9)) (flight G B C 90 150 U 100 (limits 9 9)) "
+                     "(flight H B D 90 150 V 100 (limits 9 9))"
+                     f"(tail M T F) (tail N U G) (tail O V H) (tail P W {tail})"
+                     "(fare x A C Y 70 3 10 50) (fare y A D Y 70 3 10 50)")
+        for line in ("sell a Y F G", "sell b Y F H", "threat late F 25"):
+            session.answer(line)
+        return session
+
+    def test_one_hold_at_most(self):
+        session = self.session_of_two(0)
+        self.assertEqual(session.answer("mend 0"), ("least 2000",))
+        self.assertEqual(session.answer("holds 25 0"), ("least 1025", "G"))
+        self.assertEqual(session.answer("holds 24 0"), ("least 2000",))
+        self.assertEqual(session.answer("holds 30 0"), ("least 1030", "G"))
+
+    def test_the_first_twelve_flights(self):
+        self.assertEqual(self.session_of_two(5).answer("holds 25 0"), ("least 1025", "G"))
+        # F is the eleventh flight, or the thirteenth one; G stands behind it.
+        self.assertEqual(self.session_of_two(6).answer("holds 25 0"), ("least 2000",))
 
 
 class WrongLinesTest(SessionCase):

@@ -9,7 +9,7 @@ from interline.tolerance import accept_tolerance, curve, tolerance
 from tests.samples import NET, VALUES, Case, damaged, net_of
 from tests.test_book import WRONG_BOUNDS
 from tests.test_broken import WRONG_BOOKINGS
-from tests.test_mending import PRICES, TYPES, WRONG_PRICES, fan, told_count, told_paper, told_ways
+from tests.test_mending import PRICES, TYPES, WRONG_PRICES, fan, told_bound, told_count, told_paper, told_ways
 
 # Where F is more than 5 late, G is missed; H comes 200 later. G itself waits for its tail J from 41 minutes on.
 FLIGHTS = [("F", "A", "B", 0, 60, "U"), ("G", "B", "C", 95, 150), ("H", "B", "C", 295, 350, "U"), ("J", "D", "B", 0, 50)]
@@ -76,7 +76,9 @@ class ToleranceTest(Case):
             chance, arguments = random_delay(seed)
             net, bookings, prices, flight = arguments
             most = chance.choice((0, 20, 70))
-            bound = chance.choice((0, 60, 300, 900))
+            # The bound of the empty row of choices, where the least cost is greater, makes papers that go on.
+            root = told_bound(*told_ways(net, bookings, course_of(flight, most), prices), ())
+            bound = chance.choice((0, 60, 300, 900, root, root, max(0, root - 1)))
             costs = [least_mend(net, bookings, course_of(flight, minutes), prices)[0] for minutes in range(most + 1)]
             self.assertEqual(curve(*arguments, most), tuple(costs))
             told = tolerance(*arguments, bound, most)
