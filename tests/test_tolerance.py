@@ -30,7 +30,7 @@ def random_delay(seed):
         flights += [(f"p{place}", "A", "B", depart, depart + 60, "T"),
                     (f"q{place}", "B", "C", depart + 90 + slack, depart + 150 + slack, "U")]
     net = net_of(flights, types=(("T", chance.choice((2, 3)), 0), ("U", 3, 0)))
-    bookings = tuple((str(place), "Y", (f"p{place % 3}", f"q{place % 3}")) for place in range(chance.randint(0, 7)))
+    bookings = tuple((str(place), "Y", (f"p{place % 3}", f"q{place % 3}")) for place in range(chance.randint(0, 9)))
     return chance, (net, bookings, ((3,), (400,)), f"p{chance.randrange(3)}")
 
 
