@@ -131,8 +131,8 @@ def settle_group(rests, places):
         # Who owes most pays whom most is owed, so that one of the two is settled.
         amount = min(-left[0][0], left[-1][0])
         payments.append((left[0][1], left[-1][1], amount))
-        left[0][0] += amount
-        left[-1][0] -= amount
+        left[0][0] = left[0][0] + amount
+        left[-1][0] = left[-1][0] - amount
         left = sorted([row for row in left if row[0] != 0])
     return payments
 

@@ -76,7 +76,7 @@ def seating_of(groups, seats, table, number):
             last = size
         else:
             plan[-1].append(name)
-            last += size
+            last = last + size
     return tuple([tuple(row) for row in plan])
 
 

@@ -48,6 +48,58 @@ def plain(node, functions):
     return isinstance(node, ast.Constant) and isinstance(node.value, (int, str, type(None)))
 
 
+def place_text(node):
+    """A name, an attribute or an item as a text, all items of one list told alike."""
+    if isinstance(node, ast.Subscript):
+        return place_text(node.value) + "[]"
+    if isinstance(node, ast.Attribute):
+        return place_text(node.value) + "." + node.attr
+    return ast.unparse(node)
+
+
+def may_be(node):
+    """The places whose very value an expression may give."""
+    if isinstance(node, (ast.Name, ast.Attribute, ast.Subscript)):
+        return {place_text(node)}
+    if isinstance(node, ast.IfExp):
+        return may_be(node.body) | may_be(node.orelse)
+    if isinstance(node, ast.BoolOp):
+        return set().union(*map(may_be, node.values))
+    if isinstance(node, ast.Call) and isinstance(node.func, ast.Name) and node.func.id in ("min", "max"):
+        return set().union(*map(may_be, node.args))
+    return set()
+
+
+def assigned(target, value):
+    """Sets of places that have one value behind an assignment."""
+    if not isinstance(target, ast.Tuple):
+        return [{place_text(target)} | may_be(value)]
+    if isinstance(value, ast.Tuple):
+        return [places for one, part in zip(target.elts, value.elts) for places in assigned(one, part)]
+    return [{place_text(one)} | {text + "[]" for text in may_be(value)} for one in target.elts]
+
+
+def changed_by_itself(function):
+    """The rows of `extend`, `update`, `+=` and `|=` in a function that may get what they change."""
+    groups = []
+    for node in ast.walk(function):
+        for target in node.targets if isinstance(node, ast.Assign) else ():
+            for places in assigned(target, node.value):
+                touched = [group for group in groups if group & places]
+                groups = [group for group in groups if not group & places] + [places.union(*touched)]
+    found = []
+    for node in ast.walk(function):
+        target, given = None, set()
+        if isinstance(node, ast.AugAssign) and isinstance(node.op, (ast.Add, ast.BitOr)):
+            target, given = place_text(node.target), may_be(node.value)
+        elif isinstance(node, ast.Call) and isinstance(node.func, ast.Attribute) and node.func.attr in ("extend", "update"):
+            target, given = place_text(node.func.value), set().union(*map(may_be, node.args))
+        same = {target}.union(*(group for group in groups if target in group))
+        if same & given:
+            found.append(node.lineno)
+    return found
+
+
 class LanguageTest(unittest.TestCase):
 
     def test_files(self):
@@ -247,6 +299,20 @@ class LanguageTest(unittest.TestCase):
         return {node.lineno for node in ast.walk(tree) if isinstance(node, ast.Call)
                 and isinstance(node.func, ast.Name) and node.func.id in ("len", "sorted")
                 and isinstance(node.args[0], ast.Call)}
+
+    def test_nothing_is_changed_by_itself(self):
+        for name, node in nodes(ast.FunctionDef):
+            self.assertEqual(changed_by_itself(node), [], f"{name} {node.name}")
+
+    def test_what_is_changed_by_itself(self):
+        for rows in (("a += a",), ("a = b", "a += b"), ("a = b", "b += a"), ("a = b", "c = a", "b |= c"), ("a, b = c, d", "a += c"),
+                     ("x, b = c[0]", "a = b", "a += b"), ("a = min(-b[0][0], b[-1][0])", "b[0][0] += a"), ("a.extend(a)",),
+                     ("a = b.c", "a.update(b.c)"), ("a = b if c else d", "a += d"), ("a = b or c", "a += c")):
+            for text in (rows, rows[::-1]):
+                self.assertEqual(len(changed_by_itself(ast.parse("\n".join(text)))), 1, text)
+        for rows in (("a = b", "a += c"), ("a = b + 1", "a += b"), ("a = b", "a = a + b"), ("a = list(b)", "a.extend(b)"),
+                     ("a = b", "a += b * 2"), ("a, b = c, d", "a += d"), ("a = 0", "b = 0", "a += b"), ("a.b = c.b", "a.d += a.b")):
+            self.assertEqual(changed_by_itself(ast.parse("\n".join(rows))), [], rows)
 
     def test_loops_do_not_change_what_they_visit(self):
         for name, node in nodes(ast.For):
