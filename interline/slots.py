@@ -25,15 +25,15 @@ def require_slots(requests, windows, room):
     """Raise ArgumentError for the first wrong argument."""
     require(is_within(windows, 1, MAX_WINDOWS), "windows")
     require(is_within(room, 1, MAX_REQUESTS), "room")
-    require(is_short(requests, MAX_REQUESTS) and all([is_request(part) for part in requests]), "requests")
+    require(is_short(requests, MAX_REQUESTS) and all([is_request(part, windows) for part in requests]), "requests")
     require(are_unlike([request[0] for request in requests]), "requests")
 
 
-def is_request(value):
-    """Tell whether a value is a request."""
+def is_request(value, windows):
+    """Tell whether a value is a request that wants one of so many windows."""
     if not is_row(value, 3) or not isinstance(value[0], str):
         return False
-    return is_integer(value[1]) and is_within(value[2], 0, MAX_WEIGHT)
+    return is_within(value[1], 0, windows - 1) and is_within(value[2], 0, MAX_WEIGHT)
 
 
 def cost_at(request, window):

@@ -14,7 +14,8 @@ WRONG_ROOMS = (0, 25, -1, True, False, None, "5", (), (5,), 10 ** 40)
 WRONG_REQUESTS = (
     None, 5, "a", True, [], ("a", 1, 2), (None,), (("a", 1),), (("a", 1, 2, 3),), ((1, 1, 2),), (("a", None, 2),),
     (("a", True, 2),), (("a", "1", 2),), (("a", 1, -1),), (("a", 1, 1001),), (("a", 1, True),), (("a", 1, None),),
-    (("a", 1, 2), ("a", 2, 3)), [("a", 1, 2)], (["a", 1, 2],), ((("a",), 1, 2),),
+    (("a", 1, 2), ("a", 2, 3)), [("a", 1, 2)], (["a", 1, 2],), ((("a",), 1, 2),), (("a", 5, 2),), (("a", -1, 2),),
+    (("a", 48, 0),), (("a", 10 ** 40, 1),), (("a", -10 ** 40, 1),), (("a", 4, 2), ("b", 0, 2), ("c", 5, 2)),
     tuple((str(place), 0, 0) for place in range(25)),
 )
 
@@ -61,11 +62,11 @@ class LeastSlotsTest(Case):
         self.assertEqual(cost, min(told_cost(requests, row) for row in all_ways(requests, 5, 1)))
 
     def test_against_all_ways(self):
-        seen = {"none": 0, "full": 0, "priced": 0, "outside": 0}
+        seen = {"none": 0, "full": 0, "priced": 0, "moved": 0}
         for seed in range(600):
             chance = random.Random(seed)
             windows, room = chance.randint(1, 5), chance.randint(1, 3)
-            requests = tuple((f"r{place}", chance.randint(-3, 7), chance.choice((0, 1, 2, 3, 7, 1000)))
+            requests = tuple((f"r{place}", chance.randrange(windows), chance.choice((0, 1, 2, 3, 7, 1000)))
                              for place in range(chance.randint(0, 5)))
             ways = all_ways(requests, windows, room)
             told = least_slots(requests, windows, room)
@@ -81,14 +82,14 @@ class LeastSlotsTest(Case):
             self.assertIsNone(accept_slots(requests, windows, room, told))
             seen["full"] += len(requests) == windows * room
             seen["priced"] += any(prices)
-            seen["outside"] += any(not 0 <= wanted < windows for _, wanted, _ in requests)
+            seen["moved"] += cost > 0
         self.assertGreater(min(seen.values()), 20, seen)
 
     def test_large_cases(self):
         for seed in range(20):
             chance = random.Random(seed)
             windows, room = chance.choice(((48, 1), (24, 1), (12, 2), (8, 3), (1, 24), (48, 24)))
-            requests = tuple((str(place), chance.randint(5, 12), chance.randint(0, 1000)) for place in range(24))
+            requests = tuple((str(place), chance.randrange(windows) // 4, chance.randint(0, 1000)) for place in range(24))
             told = least_slots(requests, windows, room)
             self.assertIsNone(accept_slots(requests, windows, room, told))
             self.assertTrue(are_right_prices(requests, windows, room, *told[1:]))
@@ -98,8 +99,24 @@ class LeastSlotsTest(Case):
         self.assertEqual(least_slots(requests, 3, 2)[0], 30)
         self.assertIsNone(least_slots(requests, 5, 1))
         self.assertEqual(least_slots(requests, 6, 1)[0], 75)
-        self.assertEqual(least_slots((("a", -10 ** 40, 1),), 3, 1)[:2], (10 ** 40, (0,)))
-        self.assertEqual(least_slots((("a", 10 ** 40, 1),), 3, 1)[:2], (10 ** 40 - 2, (2,)))
+
+    def test_wanted_windows(self):
+        # The window that is wanted is one of the windows: from 0 to below their number.
+        for windows in (1, 2, 7, 48):
+            for wanted in (0, windows - 1):
+                requests = (("a", wanted, 1),)
+                told = least_slots(requests, windows, 24)
+                self.assertEqual(told, (0, (wanted,), (0,) * windows))
+                self.assertIsNone(accept_slots(requests, windows, 24, told))
+            for wanted in (-1, windows, windows + 1, 10 ** 40, -10 ** 40):
+                for requests in ((("a", wanted, 1),), (("a", 0, 1), ("b", wanted, 0)), (("b", wanted, 1000), ("a", 0, 1))):
+                    self.wrong_argument("requests", least_slots, requests, windows, 24)
+                    self.wrong_argument("requests", accept_slots, requests, windows, 24, None)
+                    self.wrong_argument("requests", accept_slots, requests, windows, 24, (0, (0,), (0,) * windows))
+        # Where there is no room for all of them either, the wrong request is still told.
+        self.wrong_argument("requests", least_slots, (("a", 0, 1), ("b", 1, 1)), 1, 1)
+        self.wrong_argument("windows", least_slots, (("a", 1, 1),), 0, 0)
+        self.wrong_argument("room", least_slots, (("a", 1, 1),), 1, 0)
 
     def test_order_of_the_errors(self):
         for function, rest in ((least_slots, ()), (accept_slots, (None,))):
