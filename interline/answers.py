@@ -26,7 +26,7 @@ def told(parts):
 
 
 def told_course(course):
-    """Return the line of a course."""
+    """Return the words of a course, which are a line or stand at the end of one."""
     return told(["course"] + [part for event in course for part in event])
 
 
@@ -132,13 +132,13 @@ def answer_guard(session):
     answer = guard(session.net, session.office.bookings(), session.threats, session.most, session.prices, session.bound)
     if answer[0] == "kept":
         return [told(("kept", len(answer[1])))]
-    return ["broken", told_course(answer[1])]
+    return [told(("broken", told_course(answer[1])))]
 
 
 def answer_worst(session):
     """Answer the greatest of the least costs, and its course."""
     cost, course = worst(session.net, session.office.bookings(), session.threats, session.most, session.prices)
-    return [told(("worst", cost)), told_course(course)]
+    return [told(("worst", cost, told_course(course)))]
 
 
 def answer_weak(session):
@@ -185,7 +185,7 @@ def answer_duties(session, sits):
 def answer_gates(session, station, lead):
     """Answer how many gates are enough, and when so many are held."""
     number, course, time = least_gates(session.net, station, lead, session.threats, session.most)
-    return [told(("gates", number, time)), told_course(course)]
+    return [told(("gates", number, time, told_course(course)))]
 
 
 def answer_promise(session, journey):
@@ -193,9 +193,9 @@ def answer_promise(session, journey):
     answer = promise(session.net, journey, session.threats, session.most)
     if answer[0] == "kept":
         _, time, course = answer
-        return [told(("kept", time)), told_course(course)]
+        return [told(("kept", time, told_course(course)))]
     _, course, leg, reason = answer
-    return [told(("broken", leg, reason)), told_course(course)]
+    return [told(("broken", leg, reason, told_course(course)))]
 
 
 def answer_safest(session, start, end, time):
@@ -217,7 +217,8 @@ def answer_holds(session, minutes, course):
     """Answer the least cost where one of the first flights may be held, and the flight that is."""
     offers = tuple([(name, minutes) for name in list(session.office.chart.flights)[:MAX_STEPS]])
     cost, row = least_holds(session.net, session.office.bookings(), course, session.prices, offers, 1)
-    return [told(("least", cost))] + [name for name, _ in row]
+    held = [name for name, _ in row]
+    return [told(("least", cost, *held))]
 
 
 def answer_play(session, course):

@@ -101,12 +101,12 @@ class LoadTest(SessionCase):
         session.answer("threat late F 7")
         session.answer("threat late G 1")
         # One event at most, 1 for a minute, 1000 for the money back, and the bound 0.
-        self.assertEqual(session.answer("worst"), ("worst 1000", "course cancel F"))
+        self.assertEqual(session.answer("worst"), ("worst 1000 course cancel F",))
         self.assertEqual(session.answer("mend 1"), ("least 0",))
-        self.assertEqual(session.answer("guard"), ("broken", "course cancel F"))
+        self.assertEqual(session.answer("guard"), ("broken course cancel F",))
         self.assertEqual(session.answer("holds 7"), ("least 0",))
         session.answer("price Y 1 1")
-        self.assertEqual(session.answer("guard"), ("broken", "course cancel F"))
+        self.assertEqual(session.answer("guard"), ("broken course cancel F",))
         session.answer("bound 1")
         self.assertEqual(session.answer("guard"), ("kept 4",))
 
@@ -143,9 +143,9 @@ class LoadTest(SessionCase):
         self.assertEqual(session.answer("text"), ("(station A 0 30)", "(classes X Y Z)"))
         self.assertEqual(session.answer("sold"), ())
         self.assertEqual(session.answer("ledger"), ("ledger 0 0 0 0 0",))
-        self.assertEqual(session.answer("worst"), ("worst 0", "course"))
+        self.assertEqual(session.answer("worst"), ("worst 0 course",))
         self.refused(CommandError, ("mend 0",), session.answer, "mend 0")
-        self.assertEqual(len(session), len(lines) + 2 + 0 + 1 + 2)
+        self.assertEqual(len(session), len(lines) + 2 + 0 + 1 + 1)
         session.load(TEXT)
         self.assertEqual(session.answer("threat cancel H"), ("threat 0",))
         self.assertEqual(session.answer("sell a Y F"), ("paid 50",))
@@ -184,11 +184,11 @@ class LinesTest(SessionCase):
         self.assertEqual(session.answer("guard"), ("kept 1",))
         session.answer("events 3")
         # The money back of a and c costs 1000000 each in the class Y.
-        self.assertEqual(session.answer("guard"), ("broken", "course cancel F late H 30"))
+        self.assertEqual(session.answer("guard"), ("broken course cancel F late H 30",))
         self.assertEqual(session.answer("price Y 0 1"), ("ok",))
         self.assertEqual(session.answer("guard"), ("kept 8",))
         self.assertEqual(session.answer("bound 1"), ("ok",))
-        self.assertEqual(session.answer("guard"), ("broken", "course cancel F late H 30"))
+        self.assertEqual(session.answer("guard"), ("broken course cancel F late H 30",))
         # b, of the class C, gets the money back where I is missed.
         session.answer("price C 5 70")
         self.assertEqual(session.answer("mend 1"), ("least 70",))
@@ -206,8 +206,8 @@ class LinesTest(SessionCase):
         self.answers("blame")
 
     def test_the_book(self):
-        self.answers("guard", "broken", "course late H 30")
-        self.answers("worst", "worst 1180", "course cancel F late H 30")
+        self.answers("guard", "broken course late H 30")
+        self.answers("worst", "worst 1180 course cancel F late H 30")
         self.answers("weak", "course late H 30")
         self.answers("mend 0", "least 90")
         self.answers("mend 1", "least 1000")
@@ -215,11 +215,31 @@ class LinesTest(SessionCase):
         self.answers("room C J", "room -1")
         session = session_of()
         session.answer("price C 1 300")
-        self.assertEqual(session.answer("guard"), ("broken", "course cancel F late H 30"))
+        self.assertEqual(session.answer("guard"), ("broken course cancel F late H 30",))
         session.answer("bound 1000000")
         self.assertEqual(session.answer("guard"), ("kept 7",))
         self.assertEqual(session.answer("weak"), ("none",))
         self.assertEqual(session.answer("room Y F"), ("room 57",))
+
+    def test_what_goes_on_in_one_line(self):
+        # "and the course", "and the flights" go on in the line of the words ahead of them; `play` answers two lines.
+        session = Session()
+        session.load("(station A 0 30) (station B 0 30) (station C 0 30) (type T 9 20) (classes Y) "
+                     "(flight F A B 0 60 T 100 (limits 9)) (flight G B C 95 150 T 100 (limits 9)) "
+                     "(tail N T F) (tail M T G) (fare X A C Y 70 1 10 50)")
+        told = []
+        for line, lines in (
+                ("promise F G", ("kept 150 course",)), ("sell Ann Y F G", ("paid 70",)), ("worst", ("worst 0 course",)),
+                ("threat late F 10", ("threat 0",)), ("promise F G", ("broken 1 missed course late F 10",)),
+                ("promise F", ("kept 70 course late F 10",)), ("worst", ("worst 1000 course late F 10",)),
+                ("guard", ("broken course late F 10",)), ("weak", ("course late F 10",)),
+                ("gates B 30", ("gates 2 65 course",)), ("gates A 30", ("gates 1 -30 course",)),
+                ("holds 10 0", ("least 10 G",)), ("holds 10", ("least 0",)), ("holds 4 0", ("least 1000",)),
+                ("play 0", ("least 1000", "ledger 35 0 35 0 0"))):
+            self.assertEqual(session.answer(line), lines, line)
+            told.extend(lines)
+            self.assertEqual(list(session), told)
+            self.assertEqual(len(session), len(told))
 
     def test_other_lines(self):
         self.answers("quote Y A C 1", "price 90 H I")
@@ -232,17 +252,17 @@ class LinesTest(SessionCase):
         self.answers("tails", "T 1", "U 1", "swaps 0")
         self.answers("duties 20 300", "duties 2")
         self.answers("duties 0 0", "duties 5")
-        self.answers("gates B 30", "gates 1 160", "course")
-        self.answers("gates A 1440", "gates 2 -1340", "course")
-        self.answers("promise F G", "broken 0 cancelled", "course cancel F")
-        self.answers("promise H I", "broken 1 missed", "course late H 30")
-        self.answers("promise H", "kept 210", "course late H 30")
+        self.answers("gates B 30", "gates 1 160 course")
+        self.answers("gates A 1440", "gates 2 -1340 course")
+        self.answers("promise F G", "broken 0 cancelled course cancel F")
+        self.answers("promise H I", "broken 1 missed course late H 30")
+        self.answers("promise H", "kept 210 course late H 30")
         self.answers("safest A C 0", "none")
         self.answers("safest A D 0", "kept 210 H")
         self.answers("safest A D 101", "none")
         self.answers("safest D D 0", "none")
         self.answers("seats 0", "F none", "G none", "H 0", "I 0", "J none")
-        self.answers("holds 30 1", "least 30", "I")
+        self.answers("holds 30 1", "least 30 I")
         self.answers("holds 29 1", "least 1000")
         self.answers("play 0", "least 90", "ledger 390 0 390 0 0")
         self.answers("play 1", "least 1000", "ledger 307 0 307 0 0")
@@ -253,7 +273,7 @@ class LinesTest(SessionCase):
         self.assertEqual(session.answer("safest A B 0"), ("kept 20160 F",))
         session = Session()
         session.load("(station A 0 30) (classes Y)")
-        self.assertEqual(session.answer("gates A 5"), ("gates 0 none", "course"))
+        self.assertEqual(session.answer("gates A 5"), ("gates 0 none course",))
         self.assertEqual(session.answer("play"), ("least 0", "ledger 0 0 0 0 0"))
         self.assertEqual(session.answer("day"), ())
         self.assertEqual(session.answer("tails"), ("swaps 0",))
@@ -321,7 +341,7 @@ class LinesTest(SessionCase):
         same("tails", lambda: [words(*pair) for pair in least_tails(net)] + [words("swaps", len(swaps(net)))])
         same("duties 10 200", lambda: [words("duties", len(least_duties(net, (10, 200))[0]))])
         number, worst_one, time = least_gates(net, start, 30, threats, most)
-        same(words("gates", start, 30), lambda: [words("gates", number, time), course_line(worst_one)])
+        same(words("gates", start, 30), lambda: [words("gates", number, time, course_line(worst_one))])
         same(words("promise", *row), lambda: self.told_promise(promise(net, row, threats, most)))
         for back in (start, end):
             best = safest(net, start, back, 50, threats, most)
@@ -336,21 +356,21 @@ class LinesTest(SessionCase):
         same("text", lambda: write_net(net).splitlines())
 
     def told_guard(self, answer):
-        return [words("kept", len(answer[1]))] if answer[0] == "kept" else ["broken", course_line(answer[1])]
+        return [words("kept", len(answer[1]))] if answer[0] == "kept" else [words("broken", course_line(answer[1]))]
 
     def told_worst(self, answer):
-        return [words("worst", answer[0]), course_line(answer[1])]
+        return [words("worst", answer[0], course_line(answer[1]))]
 
     def told_quote(self, offer):
         return [words("price", offer[0], *offer[1])] if offer else ["none"]
 
     def told_promise(self, answer):
         if answer[0] == "kept":
-            return [words("kept", answer[1]), course_line(answer[2])]
-        return [words("broken", *answer[2:]), course_line(answer[1])]
+            return [words("kept", answer[1], course_line(answer[2]))]
+        return [words("broken", *answer[2:], course_line(answer[1]))]
 
     def told_holds(self, answer):
-        return [words("least", answer[0]), *(name for name, _ in answer[1])]
+        return [words("least", answer[0], *(name for name, _ in answer[1]))]
 
     def told_play(self, office, answer):
         return [words("least", answer[0]), words("ledger", *(answer[2][-1] if answer[2] else office.ledger()))]
@@ -377,12 +397,12 @@ class HoldsTest(SessionCase):
     def test_one_hold_at_most(self):
         session = self.session_of_two(0)
         self.assertEqual(session.answer("mend 0"), ("least 2000",))
-        self.assertEqual(session.answer("holds 25 0"), ("least 1025", "G"))
+        self.assertEqual(session.answer("holds 25 0"), ("least 1025 G",))
         self.assertEqual(session.answer("holds 24 0"), ("least 2000",))
-        self.assertEqual(session.answer("holds 30 0"), ("least 1030", "G"))
+        self.assertEqual(session.answer("holds 30 0"), ("least 1030 G",))
 
     def test_the_first_twelve_flights(self):
-        self.assertEqual(self.session_of_two(5).answer("holds 25 0"), ("least 1025", "G"))
+        self.assertEqual(self.session_of_two(5).answer("holds 25 0"), ("least 1025 G",))
         # F is the eleventh flight, or the thirteenth one; G stands behind it.
         self.assertEqual(self.session_of_two(6).answer("holds 25 0"), ("least 2000",))
 
